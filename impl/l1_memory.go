@@ -14,12 +14,16 @@ type ReadRes struct {
 // not check their place: whoever calls them has asked holds first.
 type memory []byte
 
-// holds takes the width from the length, as addr + width could wrap.
+// has takes the count from the length, as addr + count could wrap.
+func (m memory) has(addr uint64, count uint64) bool {
+	size := uint64(len(m))
+	return count <= size && addr <= size-count
+}
+
 func (m memory) holds(addr uint64, width int64) bool {
 	switch width {
 	case 1, 2, 4, 8:
-		size := int64(len(m))
-		return width <= size && addr <= uint64(size-width)
+		return m.has(addr, uint64(width))
 	}
 	return false
 }

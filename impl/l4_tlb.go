@@ -229,6 +229,11 @@ func (c *cache[K]) flush(covered coverage) {
 	}
 }
 
+// drop empties the slot of this number, counted round and round.
+func (c *cache[K]) drop(number int64) {
+	c.slots[number%int64(len(c.slots))] = slot[K]{}
+}
+
 // keep inserts what a walk for va has read at this level.
 func (c *cache[K]) keep(pte K, level int64, va virtAddr, asid uint64, pick int64) {
 	at := reachOf(tableEntry(pte), level, va, asid)
@@ -296,6 +301,18 @@ func cacheSetOf(k Caches) (cacheSet, bool) {
 
 func (k *cacheSet) caches() Caches {
 	return Caches{I: k.fetch.tlb(), D: k.data.tlb(), P: k.upper.tlb()}
+}
+
+func (k *cacheSet) flush(covered coverage) {
+	k.fetch.flush(covered)
+	k.data.flush(covered)
+	k.upper.flush(covered)
+}
+
+func (k *cacheSet) drop(number int64) {
+	k.fetch.drop(number)
+	k.data.drop(number)
+	k.upper.drop(number)
 }
 
 func (k *cacheSet) leaves(kind int64) *cache[leafPte] {
