@@ -63,14 +63,14 @@ func checkKept(t *testing.T, b []byte, counts *keptCounts) {
 func TestKeptStoodInMemory(t *testing.T) {
 	d := dice(1111)
 	counts := keptCounts{}
-	for range 400 {
+	for range 500 {
 		checkKept(t, someProgram(&d, 200), &counts)
 	}
 	for range 300 {
 		checkKept(t, someText(&d), &counts)
 	}
 	for j := range 3 {
-		if counts.entries[j] < 1000 || counts.stale[j] < 50 {
+		if counts.entries[j] < 1000 || counts.stale[j] < 25 {
 			t.Errorf("cache %d held %d entries, %d of them stale", j, counts.entries[j], counts.stale[j])
 		}
 	}

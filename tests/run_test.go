@@ -10,8 +10,8 @@ import (
 
 // The tests of promise 9, part five, and of promise 10: runs of n steps, and the same steps one by one.
 
-// someProgram is a script that is at home in its tables: translation is on, code and data are there, and so are stores
-// into the tables, fences and other address spaces. Traps come back by a small handler in mode M.
+// someProgram is a script that is at home in its tables: translation is on or comes on, code and data are there, and so
+// are stores into the tables, fences and other address spaces. Traps come back by a small handler in mode M.
 //
 // Physical pages: 0 the handler, 1 the root, 2 a table of level 1, 3 and 4 tables of level 0, 5 and 6 code, then data.
 func someProgram(d *dice, steps int) []byte {
@@ -36,6 +36,9 @@ func someProgram(d *dice, steps int) []byte {
 	h.Regs[4], h.Regs[5] = d.below(64)<<6, []uint64{1024, 1, 0}[d.below(3)]
 	h.Regs[6] = satpOn | d.below(2)<<44 | 1
 	h.Regs[7] = 320 + 4*d.below(8)
+	if d.below(8) == 0 {
+		h.Satp = 0
+	}
 	picks := make([]int64, steps)
 	for i := range picks {
 		picks[i] = int64(d.below(256))
@@ -289,7 +292,7 @@ func (r *ranCounts) add(cached impl.Result, plain impl.Result) {
 func (r *ranCounts) check(t *testing.T) {
 	t.Helper()
 	for _, cause := range []int64{0, 1, 2, 5, 7, 8, 9, 10, 12, 13, 15, 20} {
-		if r.causes[cause] < 50 {
+		if r.causes[cause] < 25 {
 			t.Errorf("cause %d came only %d times", cause, r.causes[cause])
 		}
 	}
