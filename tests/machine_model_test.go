@@ -8,8 +8,8 @@ import (
 	"loop.example/s0051/impl"
 )
 
-// Chapter 5 told a second time, for the tests of promises 9 to 11. Here a step changes nothing before it knows that it
-// will not trap, so that there is nothing to put back.
+// Chapter 5 told a second time, for the tests of promises 9 to 16; its 5.6 stands in discipline_model_test.go. Here a
+// step changes nothing before it knows that it will not trap, so that there is nothing to put back.
 
 func wantHartValid(h impl.Hart) bool {
 	if len(h.Mem) < 64 || len(h.Mem) > 4096 || len(h.Mem)%64 != 0 || len(h.Regs) != 8 || h.Regs[0] != 0 {
@@ -40,14 +40,16 @@ func sameStep(a, b impl.StepRes) bool {
 	return a.Ok == b.Ok && a.Cause == b.Cause && a.Tval == b.Tval && sameHart(a.Hart, b.Hart)
 }
 
-// stepping is a step under way: h is the hart so far, of which only the caches change before the step is sure.
+// stepping is a step under way: h is the hart so far, of which only the caches change before the step is sure. The ghost
+// records are there only when somebody asks for discipline.
 type stepping struct {
-	h     impl.Hart
-	c     impl.Ctx
-	plain bool
-	pick  int64
-	cause int64
-	tval  uint64
+	h      impl.Hart
+	c      impl.Ctx
+	plain  bool
+	pick   int64
+	cause  int64
+	tval   uint64
+	ghosts *ghostSet
 }
 
 func (s *stepping) trap(cause int64, tval uint64) {
@@ -55,6 +57,9 @@ func (s *stepping) trap(cause int64, tval uint64) {
 }
 
 func (s *stepping) translate(kind int64, va uint64) (uint64, bool) {
+	if s.ghosts != nil {
+		s.ghosts.translate(s.h.Mem, s.c, kind, va)
+	}
 	if s.plain {
 		got := wantTrans(s.h.Mem, s.c, kind, va)
 		s.trap(got.Cause, va)
@@ -195,8 +200,11 @@ func (s *stepping) alone(op uint64, a byte, b byte, c byte, imm uint64) {
 	case impl.InsStatus:
 		h.Sum, h.Mxr = xa%2 == 1, xa/2%2 == 1
 	case impl.InsFence:
+		f := impl.Fence{HasVa: a != 0, Va: xa, HasAsid: b != 0, Asid: xb % 65536}
+		if s.ghosts != nil {
+			s.ghosts.fence(f)
+		}
 		if !s.plain {
-			f := impl.Fence{HasVa: a != 0, Va: xa, HasAsid: b != 0, Asid: xb % 65536}
 			h.Caches = impl.Caches{I: wantFlush(h.Caches.I, f), D: wantFlush(h.Caches.D, f), P: wantFlush(h.Caches.P, f)}
 		}
 	case impl.InsRet:
@@ -207,10 +215,14 @@ func (s *stepping) alone(op uint64, a byte, b byte, c byte, imm uint64) {
 }
 
 func wantStep(h impl.Hart, plain bool, pick int64) impl.StepRes {
+	return wantWatched(h, plain, pick, nil)
+}
+
+func wantWatched(h impl.Hart, plain bool, pick int64, ghosts *ghostSet) impl.StepRes {
 	if !wantHartValid(h) || pick < 0 || pick > 255 {
 		return impl.StepRes{}
 	}
-	s := stepping{h: cloneHart(h), c: impl.Ctx{Mode: h.Mode, Sum: h.Sum, Mxr: h.Mxr, Satp: h.Satp}, plain: plain, pick: pick}
+	s := stepping{h: cloneHart(h), c: impl.Ctx{Mode: h.Mode, Sum: h.Sum, Mxr: h.Mxr, Satp: h.Satp}, plain: plain, pick: pick, ghosts: ghosts}
 	if pick >= 128 && !plain {
 		for _, tlb := range []impl.Tlb{s.h.Caches.I, s.h.Caches.D, s.h.Caches.P} {
 			tlb.Entries[int(pick-128)%len(tlb.Entries)] = impl.Entry{}
